@@ -46,13 +46,6 @@ func abs(n int) int {
 	return n
 }
 
-func gcd(a, b int) int {
-	for b != 0 {
-		a, b = b, a%b
-	}
-	return a
-}
-
 func between(n, least, most int) bool {
 	return least <= n && n <= most
 }

@@ -3,7 +3,10 @@
 // shared/doc/01-rod.md.
 package rod
 
-import "sedge/api"
+import (
+	"sedge/api"
+	"sedge/ratio"
+)
 
 // Valid reports whether a list of posts is a parcel: as many corners as there
 // may be, all within range, and sides that meet in their common corners alone.
@@ -160,7 +163,7 @@ func borderPosts(p []api.XY) int {
 	sum := 0
 	for i := range len(p) {
 		a, b := p[i], p[(i+1)%len(p)]
-		sum += gcd(abs(b.X-a.X), abs(b.Y-a.Y))
+		sum += ratio.Divisor(b.X-a.X, b.Y-a.Y)
 	}
 	return sum
 }

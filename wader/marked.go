@@ -1,6 +1,9 @@
 package wader
 
-import "sedge/api"
+import (
+	"sedge/api"
+	"sedge/ratio"
+)
 
 const maxCaught = 1000000
 
@@ -14,18 +17,9 @@ func Marked(first, second, again int) (api.Ratio, int, api.Errno) {
 	if again == 0 {
 		return api.Ratio{}, 0, api.ErrNone
 	}
-	return lowest(first*second, again), (first+1)*(second+1)/(again+1) - 1, api.OK
+	return ratio.Lowest(first*second, again), (first+1)*(second+1)/(again+1) - 1, api.OK
 }
 
 func isCatch(n int) bool {
 	return 0 <= n && n <= maxCaught
-}
-
-// lowest returns a fraction above 0 in lowest terms.
-func lowest(n, d int) api.Ratio {
-	a, b := n, d
-	for b != 0 {
-		a, b = b, a%b
-	}
-	return api.Ratio{N: n / a, D: d / a}
 }

@@ -1,6 +1,9 @@
 package wale
 
-import "sedge/api"
+import (
+	"sedge/api"
+	"sedge/ratio"
+)
 
 // IsCircle reports whether a list is a circle.
 func IsCircle(n int, l []api.Change, circle []int) (bool, api.Errno) {
@@ -19,7 +22,7 @@ func MeanOf(n int, l []api.Change, circle []int) (api.Ratio, api.Errno) {
 	if !r.isCircle(circle) {
 		return api.Ratio{}, api.ErrNone
 	}
-	return lowest(r.worth(circle), len(circle)), api.OK
+	return ratio.Lowest(r.worth(circle), len(circle)), api.OK
 }
 
 // Mean returns the greatest mean of a circle.
@@ -60,7 +63,7 @@ func Share(n int, l []api.Change, circle []int, state int) (api.Ratio, api.Errno
 			count++
 		}
 	}
-	return lowest(count, len(circle)), api.OK
+	return ratio.Lowest(count, len(circle)), api.OK
 }
 
 // isCircle reports whether a list is a circle, which has no more than n changes
@@ -116,13 +119,4 @@ func (r rotation) first(plan []int) []int {
 		}
 	}
 	return nil
-}
-
-// lowest returns a fraction in lowest terms.
-func lowest(n, d int) api.Ratio {
-	a, b := max(n, -n), d
-	for b != 0 {
-		a, b = b, a%b
-	}
-	return api.Ratio{N: n / a, D: d / a}
 }
